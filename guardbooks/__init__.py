@@ -1,0 +1,1 @@
+"""Guardbooks: which barriers of a garbage collector lose nothing."""
