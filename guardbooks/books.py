@@ -1,6 +1,6 @@
 """Guard books: tables of what a hand has to heed, and the entries that they are made of."""
 
-from guardbooks.kinds import is_integer, is_tuple_of
+from guardbooks.kinds import is_integer, is_tuple_of, replaced
 
 WORDS = ("again", "new", "old")
 GUARDS = (
@@ -77,25 +77,25 @@ def with_entry(book, entry):
         return book
     if entry[0] == "write":
         guard = _item_at(book, _places_of(entry))
-        return _replaced(book, _places_of(entry), tuple(sorted(guard + (entry[3],))))
+        return replaced(book, _places_of(entry), tuple(sorted(guard + (entry[3],))))
     if entry[0] == "make":
         return with_made(book, entry[1], "black")
-    return _replaced(book, _places_of(entry), True)
+    return replaced(book, _places_of(entry), True)
 
 
 def without(book, entry):
     """Returns book without entry; for what is made with "white"."""
     if entry[0] == "write":
         guard = _item_at(book, _places_of(entry))
-        return _replaced(book, _places_of(entry), tuple([word for word in guard if word != entry[3]]))
+        return replaced(book, _places_of(entry), tuple([word for word in guard if word != entry[3]]))
     if entry[0] == "make":
         return with_made(book, entry[1], "white")
-    return _replaced(book, _places_of(entry), False)
+    return replaced(book, _places_of(entry), False)
 
 
 def with_made(book, phase, colour):
     """Returns book with colour as what a hand of this phase makes."""
-    return _replaced(book, (PARTS["make"], phase), colour)
+    return replaced(book, (PARTS["make"], phase), colour)
 
 
 def _has(book, entry):
@@ -117,11 +117,3 @@ def _item_at(row, places):
     for place in places:
         item = item[place]
     return item
-
-
-def _replaced(row, places, item):
-    """Returns the tuple row with another item where places, one within another, lead to."""
-    if not places:
-        return item
-    place = places[0]
-    return row[:place] + (_replaced(row[place], places[1:], item),) + row[place + 1:]

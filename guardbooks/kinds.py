@@ -1,4 +1,4 @@
-"""What kinds values are of, asked of any value."""
+"""What kinds values are of, asked of any value, and tuples with another item in them."""
 
 
 def is_integer(value):
@@ -31,3 +31,11 @@ def first_misnamed(rows, many):
             if item is not None and not is_number_below(item, many):
                 return (place, at)
     return None
+
+
+def replaced(row, places, item):
+    """Returns the tuple row with another item where places, one within another, lead to."""
+    if not places:
+        return item
+    place = places[0]
+    return row[:place] + (replaced(row[place], places[1:], item),) + row[place + 1:]

@@ -12,14 +12,15 @@ FOLDER = pathlib.Path(__file__).parent.parent / "guardbooks"
 
 STATEMENTS = (
     ast.FunctionDef, ast.ClassDef, ast.Return, ast.Assign, ast.AugAssign, ast.For, ast.While, ast.If, ast.Raise,
-    ast.ImportFrom, ast.Expr, ast.Break, ast.Continue, ast.Pass)
+    ast.ImportFrom, ast.Expr, ast.Break, ast.Continue, ast.Pass, ast.Try)
 EXPRESSIONS = (
     ast.BoolOp, ast.BinOp, ast.UnaryOp, ast.IfExp, ast.Dict, ast.ListComp, ast.DictComp, ast.Compare, ast.Call,
     ast.Constant, ast.Attribute, ast.Subscript, ast.Name, ast.List, ast.Tuple, ast.Slice)
 CALLED = (
     "len", "range", "enumerate", "min", "max", "sum", "abs", "sorted", "reversed", "int", "str", "bool", "list",
     "tuple", "dict", "isinstance", "any", "all", "divmod", "zip")
-METHODS = ("append", "get", "items", "join", "pop", "split", "startswith", "endswith", "values")
+METHODS = (
+    "append", "get", "index", "isdecimal", "items", "join", "pop", "split", "startswith", "endswith", "values")
 BARRED = (
     "mro", "elements", "open", "input", "law", "type", "typing", "enum", "register", "vars", "id", "dir", "eval",
     "exec", "exit", "gc", "os", "sys", "help", "quit", "compile", "super", "locals", "globals")
@@ -47,6 +48,26 @@ def defined_in(tree):
 
 def imported_by(tree):
     return [(node.module, alias) for node in tree.body if isinstance(node, ast.ImportFrom) for alias in node.names]
+
+
+def is_plain(value, functions):
+    """Whether value is written out at module level: a literal, or a table of functions that stand above."""
+    if isinstance(value, ast.Dict):
+        return all(isinstance(key, ast.Constant) for key in value.keys) and all(
+            is_plain(item, functions) for item in value.values)
+    if isinstance(value, ast.Name):
+        return value.id in functions
+    ast.literal_eval(value)
+    return True
+
+
+def taken_from_tables(tree):
+    """The local names that are assigned an item of a table at module level: these may be called."""
+    tables = [node.targets[0].id for node in tree.body if isinstance(node, ast.Assign)]
+    return [
+        node.targets[0].id for node in ast.walk(tree)
+        if isinstance(node, ast.Assign) and isinstance(node.value, ast.Subscript)
+        and isinstance(node.value.value, ast.Name) and node.value.value.id in tables]
 
 
 def bound_names(tree):
@@ -111,12 +132,15 @@ class FormTest(unittest.TestCase):
             kinds = [type(node) for node in tree.body]
             self.assertEqual(kinds[0], ast.Expr, name)
             self.assertIsInstance(tree.body[0].value, ast.Constant, name)
+            above = []
             for node in tree.body[1:]:
                 self.assertIsInstance(node, (ast.ImportFrom, ast.Assign, ast.FunctionDef, ast.ClassDef), name)
+                if isinstance(node, ast.FunctionDef):
+                    above.append(node.name)
                 if isinstance(node, ast.Assign):
                     self.assertEqual(len(node.targets), 1, name)
                     self.assertIsInstance(node.targets[0], ast.Name, name)
-                    ast.literal_eval(node.value)
+                    self.assertTrue(is_plain(node.value, above), name)
             last = max([at for at, kind in enumerate(kinds) if kind is ast.ImportFrom], default=0)
             self.assertEqual([kind for kind in kinds[1:last] if kind is not ast.ImportFrom], [], name)
 
@@ -143,12 +167,24 @@ class FormTest(unittest.TestCase):
     def test_calls(self):
         for name, tree in trees().items():
             known = [*CALLED, *defined_in(tree), *[alias.name for _, alias in imported_by(tree)], "ValueError"]
+            known += taken_from_tables(tree)
             for node in ast.walk(tree):
                 if isinstance(node, ast.Call) and isinstance(node.func, ast.Name):
                     self.assertIn(node.func.id, known, f"{name}:{node.lineno}")
                 elif isinstance(node, ast.Call):
                     self.assertIsInstance(node.func, ast.Attribute, f"{name}:{node.lineno}")
                     self.assertIn(node.func.attr, METHODS, f"{name}:{node.lineno}")
+
+    def test_only_own_errors_are_caught(self):
+        own = defined_in(trees()["errors.py"])
+        for place, node in nodes():
+            if isinstance(node, ast.Try):
+                self.assertEqual((node.orelse, node.finalbody), ([], []), place)
+                for handler in node.handlers:
+                    self.assertIsNone(handler.name, place)
+                    caught = handler.type.elts if isinstance(handler.type, ast.Tuple) else [handler.type]
+                    for error in caught:
+                        self.assertIn(error.id, own, place)
 
     def test_names(self):
         for name, tree in trees().items():
