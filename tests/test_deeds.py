@@ -48,6 +48,13 @@ class DeedErrorTest(GuardCase):
                     self.assertEqual(expected == "form", not (number or nothing), value)
                     self.assert_error(expected, value)
 
+    def test_form_where_nothing_is_written(self):
+        right = ("write", 1, 1, 0, None)
+        for place in (1, 2, 3):
+            for item in ODD_VALUES:
+                value = right[:place] + (item,) + right[place + 1:]
+                self.assert_error(fault(AMID, value), value)
+
     def test_form_with_odd_words(self):
         for word, right in RIGHT.items():
             for item in ODD_VALUES + [word.upper(), word + " ", (word,), [word], "see", "looks", word[:-1], "again"]:
