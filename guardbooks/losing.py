@@ -63,14 +63,18 @@ def _made(book):
 
 def _read_and_let_go(book, hands):
     """A hand that was looked at reads the cell 1 from the cell 2, whose field is overwritten then."""
-    heap, rooms, deeds = ((None, None), (), (1,)), ((2, None, 0),), (("look", 0),)
-    colour = 1
     if "old" in book[0][1][1] and (hands == 1 or "old" in book[0][0][1]):
-        # It is not to be read from a grey cell, but from a white one that a grey one names.
-        heap, rooms, deeds = heap + ((2,),), ((3, None, 0),), deeds + (("read", 0, 0, 0, 0),)
-        colour = 0
+        # What a grey cell named is shaded: so the cell 2 has to be white, and the grey cell 3 names it.
+        heap, rooms = ((None, None), (), (1,), (2,)), ((3, None, 0),)
+        deeds = (("look", 0), ("read", 0, 0, 0, 0))
+        guard = book[0][1][0]
+    else:
+        heap, rooms = ((None, None), (), (1,)), ((2, None, 0),)
+        deeds = (("look", 0),)
+        guard = book[0][1][1]
     writer = 0
-    if "old" in book[0][1][colour]:
+    if "old" in guard:
+        # A hand that was not looked at yet overwrites it unnoticed.
         writer = 1
         rooms = rooms + ((2,),)
     deeds = deeds + (("read", 0, 0, 0, 1), ("write", writer, 0, 0, None))
