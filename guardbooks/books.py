@@ -8,6 +8,17 @@ GUARDS = (
 MADE = ("white", "grey", "black")
 PARTS = {"write": 0, "read": 1, "make": 2, "last": 3}
 
+# All entries, ascending. They stand here written out, as they are asked for all the time.
+ENTRIES = (
+    ("last",), ("make", 0), ("make", 1),
+    ("read", 0, 0), ("read", 0, 1), ("read", 0, 2), ("read", 1, 0), ("read", 1, 1), ("read", 1, 2),
+    ("write", 0, 0, "again"), ("write", 0, 0, "new"), ("write", 0, 0, "old"),
+    ("write", 0, 1, "again"), ("write", 0, 1, "new"), ("write", 0, 1, "old"),
+    ("write", 0, 2, "again"), ("write", 0, 2, "new"), ("write", 0, 2, "old"),
+    ("write", 1, 0, "again"), ("write", 1, 0, "new"), ("write", 1, 0, "old"),
+    ("write", 1, 1, "again"), ("write", 1, 1, "new"), ("write", 1, 1, "old"),
+    ("write", 1, 2, "again"), ("write", 1, 2, "new"), ("write", 1, 2, "old"))
+
 
 def book_error(value):
     """Returns None if value, any value, is a book, otherwise the first error that applies."""
@@ -47,14 +58,6 @@ def plain_book(last, pieces):
     return ((((), (), ()),) * 2, ((False, False, False),) * 2, ("white", "white"), last, pieces)
 
 
-def all_entries():
-    """Returns the ascending tuple of all 27 entries."""
-    makes = [("make", phase) for phase in range(2)]
-    reads = [("read", phase, colour) for phase in range(2) for colour in range(3)]
-    writes = [("write", phase, colour, word) for phase in range(2) for colour in range(3) for word in WORDS]
-    return tuple([("last",)] + makes + reads + writes)
-
-
 def is_entry(value):
     """Tells whether value, any value, is an entry."""
     if not isinstance(value, tuple):
@@ -63,17 +66,30 @@ def is_entry(value):
     for item in value:
         if not isinstance(item, str) and not is_integer(item):
             return False
-    return value in all_entries()
+    return value in ENTRIES
 
 
 def entries(book):
     """Returns the ascending tuple of the entries that book has."""
-    return tuple([entry for entry in all_entries() if _has(book, entry)])
+    writes, reads, makes, last, _ = book
+    told = [("last",)] if last else []
+    for phase in range(2):
+        if makes[phase] != "white":
+            told.append(("make", phase))
+    for phase in range(2):
+        for colour in range(3):
+            if reads[phase][colour]:
+                told.append(("read", phase, colour))
+    for phase in range(2):
+        for colour in range(3):
+            for word in writes[phase][colour]:
+                told.append(("write", phase, colour, word))
+    return tuple(told)
 
 
 def with_entry(book, entry):
     """Returns book with entry as well; for what is made with "black", if it is "white"."""
-    if _has(book, entry):
+    if has_entry(book, entry):
         return book
     if entry[0] == "write":
         guard = _item_at(book, _places_of(entry))
@@ -98,7 +114,8 @@ def with_made(book, phase, colour):
     return replaced(book, (PARTS["make"], phase), colour)
 
 
-def _has(book, entry):
+def has_entry(book, entry):
+    """Tells whether book has entry."""
     item = _item_at(book, _places_of(entry))
     if entry[0] == "write":
         return entry[3] in item

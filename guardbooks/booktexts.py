@@ -1,6 +1,6 @@
 """Texts of entries and of books."""
 
-from guardbooks.books import all_entries, entries, plain_book, with_entry, with_made
+from guardbooks.books import ENTRIES, entries, plain_book, with_entry, with_made
 from guardbooks.errors import BadText
 
 PHASE_WORDS = ("unlooked", "looked")
@@ -22,7 +22,7 @@ def entry_text(entry):
 
 def read_entry(value):
     """Returns the entry of which value, any value, is the text."""
-    for entry in all_entries():
+    for entry in ENTRIES:
         if entry_text(entry) == value:
             return entry
     raise BadText(0)
@@ -69,7 +69,7 @@ def _lines_of(text):
 def _meanings():
     """Gives for each line of any book the pair of the entry that it tells and what is made by it, if that is told."""
     meanings = {PIECES: (PIECES, None)}
-    for entry in all_entries():
+    for entry in ENTRIES:
         if entry[0] == "make":
             for colour in ("grey", "black"):
                 meanings[entry_text(entry) + " " + colour] = (entry, colour)

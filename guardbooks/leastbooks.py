@@ -19,27 +19,31 @@ def is_least(book, hands):
 
 def least_part(book, hands):
     """Returns a least book that comes of book by leaving out entries."""
+    if not is_safe(book, hands):
+        raise Unfit()
     part = book
-    spare = needless(part, hands)
-    # What was needless may be needed when another entry is gone, so one is left out at a time.
-    while spare:
-        part = without(part, spare[0])
-        spare = needless(part, hands)
+    # Going through the entries once will do. What is needed stays so when others are left out: but for what closes
+    # a book for one hand, where that starts early, and all that starts early stands ahead of what closes.
+    for entry in entries(book):
+        fewer = without(part, entry)
+        if is_safe(fewer, hands):
+            part = fewer
     return part
 
 
 def least_books(hands, last, pieces):
     """Returns the ascending tuple of all least books with these two items that nowhere make "grey"."""
+    # No other way needs a last look, and without one of its entries none of these books is safe.
+    found = [way for way in WAYS if (way == "last") == last]
+    return tuple(sorted([
+        _book_of(choice, last, pieces) for way in found for choice in _choices(least_rows(way, hands, pieces))]))
+
+
+def least_rows(way, hands, pieces):
+    """Returns rows of entries: one of each row, and nothing else, make a book that is least by way."""
     # One hand alone is closed by not starting early: a least book for it has nothing that would.
     closing = [] if hands == 1 else inserting(0, pieces)
-    books = []
-    for way in WAYS:
-        for choice in _choices(closing + wants(way, hands, pieces)):
-            book = plain_book(last, pieces)
-            for entry in choice:
-                book = with_entry(book, entry)
-            books.append(book)
-    return tuple(sorted([book for book in books if book[3] == last and is_least(book, hands)]))
+    return closing + wants(way, hands, pieces)
 
 
 def _choices(rows):
@@ -48,6 +52,14 @@ def _choices(rows):
     for row in rows:
         choices = [choice + (entry,) for choice in choices for entry in row]
     return choices
+
+
+def _book_of(told, last, pieces):
+    """Returns the book with these two items and the entries told."""
+    book = plain_book(last, pieces)
+    for entry in told:
+        book = with_entry(book, entry)
+    return book
 
 
 def fewest_added(book, hands):

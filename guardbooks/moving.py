@@ -9,7 +9,7 @@ from guardbooks.standings import colour_of
 
 def after(book, standing, deed):
     """Returns the standing behind deed, any value; raises Refused if it can't be done."""
-    behind, _ = _moved(book, standing, deed)
+    behind, _ = moved(book, standing, deed)
     return behind
 
 
@@ -25,17 +25,23 @@ def led(book, standing, deeds):
 
 def guards_asked(book, standing, deed):
     """Returns the ascending tuple of the entries of book that do something in deed, any value."""
-    _, asked = _moved(book, standing, deed)
+    _, asked = moved(book, standing, deed)
     return asked
 
 
-def shaded(heap, marks, cells):
-    """Returns marks with each of cells shaded; None among these is no cell."""
-    behind = list(marks)
+def shade(heap, marks, cells):
+    """Shades each of cells in the list marks; None among these is no cell."""
     for cell in cells:
-        if cell is not None and behind[cell] == "white":
-            behind[cell] = 0 if heap[cell] else "black"
-    return tuple(behind)
+        if cell is not None and marks[cell] == "white":
+            marks[cell] = 0 if heap[cell] else "black"
+
+
+def go_through(heap, marks, cell, pieces):
+    """Changes the list marks as the scan of a grey cell does: of its next field if pieces is True, else of all."""
+    fields = heap[cell]
+    gone = marks[cell] + 1
+    marks[cell] = gone if pieces and gone < len(fields) else "black"
+    shade(heap, marks, fields[gone - 1:gone] if pieces else fields)
 
 
 # Each of the following returns the pair of the standing behind a deed and the entries that do something in it.
@@ -44,20 +50,16 @@ def shaded(heap, marks, cells):
 def _look(book, standing, deed):
     heap, marks, hands, looked = standing
     hand = deed[1]
-    return (heap, shaded(heap, marks, hands[hand]), hands, replaced(looked, (hand,), True)), ()
+    behind = list(marks)
+    shade(heap, behind, hands[hand])
+    return (heap, tuple(behind), hands, replaced(looked, (hand,), True)), ()
 
 
 def _scan(book, standing, deed):
     heap, marks, hands, looked = standing
-    cell = deed[1]
-    fields = heap[cell]
-    mark = "black"
-    if book[4]:
-        gone = marks[cell] + 1
-        if gone < len(fields):
-            mark = gone
-        fields = fields[gone - 1:gone]
-    return (heap, shaded(heap, replaced(marks, (cell,), mark), fields), hands, looked), ()
+    behind = list(marks)
+    go_through(heap, behind, deed[1], book[4])
+    return (heap, tuple(behind), hands, looked), ()
 
 
 def _drop(book, standing, deed):
@@ -77,11 +79,12 @@ def _make(book, standing, deed):
     made = book[2][phase]
     heap, marks, hands, looked = _with_room(standing, hand, room, cell)
     heap = replaced(heap, (cell,), (None,) * many)
-    marks = replaced(marks, (cell,), "black" if made == "black" else "white")
+    behind = list(marks)
+    behind[cell] = "black" if made == "black" else "white"
     if made == "grey":
-        marks = shaded(heap, marks, (cell,))
+        shade(heap, behind, (cell,))
     asked = () if made == "white" else (("make", phase),)
-    return (heap, marks, hands, looked), asked
+    return (heap, tuple(behind), hands, looked), asked
 
 
 def _read(book, standing, deed):
@@ -90,13 +93,11 @@ def _read(book, standing, deed):
     phase, colour = _phase(standing, hand), colour_of(standing, cell)
     named = standing[0][cell][field]
     heap, marks, hands, looked = _with_room(standing, hand, other, named)
-    asked = ()
-    if book[1][phase][colour]:
-        behind = shaded(heap, marks, (named,))
-        if behind != marks:
-            asked = (("read", phase, colour),)
-        marks = behind
-    return (heap, marks, hands, looked), asked
+    if not book[1][phase][colour] or not _is_white(marks, named):
+        return (heap, marks, hands, looked), ()
+    behind = list(marks)
+    shade(heap, behind, (named,))
+    return (heap, tuple(behind), hands, looked), (("read", phase, colour),)
 
 
 def _write(book, standing, deed):
@@ -107,17 +108,17 @@ def _write(book, standing, deed):
     overwritten = heap[cell][field]
     written = None if other is None else hands[hand][other]
     heap = replaced(heap, (cell, field), written)
+    guard = book[0][phase][colour]
+    behind = list(marks)
     asked = []
-    for word in ("old", "new", "again"):
-        if word in book[0][phase][colour]:
-            if word == "again":
-                behind = _led_back(marks, cell, written)
-            else:
-                behind = shaded(heap, marks, (overwritten if word == "old" else written,))
-            if behind != marks:
-                asked.append(("write", phase, colour, word))
-            marks = behind
-    return (heap, marks, hands, looked), tuple(sorted(asked))
+    for word, named in (("old", overwritten), ("new", written)):
+        if word in guard and _is_white(behind, named):
+            shade(heap, behind, (named,))
+            asked.append(("write", phase, colour, word))
+    if "again" in guard and _is_white(behind, written) and behind[cell] not in ("white", 0):
+        behind[cell] = 0
+        asked.append(("write", phase, colour, "again"))
+    return (heap, tuple(behind), hands, looked), tuple(sorted(asked))
 
 
 # A table of functions stands behind all of them.
@@ -125,7 +126,8 @@ MOVES = {
     "look": _look, "scan": _scan, "drop": _drop, "copy": _copy, "make": _make, "read": _read, "write": _write}
 
 
-def _moved(book, standing, deed):
+def moved(book, standing, deed):
+    """Returns the pair of what after and guards_asked tell of deed, any value."""
     if deed_error(standing, deed) is not None:
         raise Refused(deed)
     move = MOVES[deed[0]]
@@ -141,8 +143,5 @@ def _with_room(standing, hand, room, cell):
     return (heap, marks, replaced(hands, (hand, room), cell), looked)
 
 
-def _led_back(marks, cell, written):
-    """Returns marks with the cell grey from its first field on, if it is not white and what it names is."""
-    if marks[cell] != "white" and written is not None and marks[written] == "white":
-        return replaced(marks, (cell,), 0)
-    return marks
+def _is_white(marks, cell):
+    return cell is not None and marks[cell] == "white"

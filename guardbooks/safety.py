@@ -1,6 +1,6 @@
 """Safe books: told by a few entries, in four ways."""
 
-from guardbooks.books import entries
+from guardbooks.books import has_entry
 
 WAYS = ("child", "last", "old", "read")
 
@@ -15,7 +15,20 @@ def ways(book, hands):
     """Returns the ascending tuple of the ways in which book is safe for so many hands."""
     if not is_closed(book, hands):
         return ()
-    return tuple([way for way in WAYS if not lacking(book, wants(way, hands, book[4]))])
+    _, reads, makes, last, _ = book
+    found = []
+    # What hands that were looked at make is not white in all ways but "last".
+    made = makes[1] != "white"
+    greys = made and _heeds_old(book, 1, hands)
+    if greys and reads[1][0]:
+        found.append("child")
+    if last and inserts(book, 1):
+        found.append("last")
+    if greys and _heeds_old(book, 0, hands):
+        found.append("old")
+    if made and reads[1][1]:
+        found.append("read")
+    return tuple(found)
 
 
 def is_safe(book, hands):
@@ -30,21 +43,35 @@ def is_closed(book, hands):
 
 def inserts(book, phase):
     """Tells whether what a hand of this phase writes into fields that are gone through is heeded."""
-    return not lacking(book, inserting(phase, book[4]))
+    _, grey, black = book[0][phase]
+    # Field by field a grey cell may have fields that are gone through already.
+    return _heeds_new(black) and (not book[4] or _heeds_new(grey))
+
+
+def _heeds_new(guard):
+    return "new" in guard or "again" in guard
+
+
+def _heeds_old(book, colour, hands):
+    """Tells whether what is overwritten in cells of this colour is shaded while a looked-at hand relies on it."""
+    ahead, behind = book[0]
+    # With several hands some may not be looked at yet while others are: they may not break what these rely on.
+    return "old" in behind[colour] and (hands == 1 or "old" in ahead[colour])
+
+
+# The same is told as rows of entries, of each of which one at least has to be there, for those who look for books.
 
 
 def inserting(phase, pieces):
-    """What inserting wants: rows of entries, of each of which one at least has to be there."""
-    # Field by field a grey cell may have fields that are gone through already.
+    """Returns the rows that inserting wants."""
     colours = (1, 2) if pieces else (2,)
     return [(("write", phase, colour, "again"), ("write", phase, colour, "new")) for colour in colours]
 
 
 def wants(way, hands, pieces):
-    """What way wants of a closed book: rows of entries, of each of which one at least has to be there."""
+    """Returns the rows that way wants of a closed book."""
     if way == "last":
         return [(("last",),)] + inserting(1, pieces)
-    # With several hands some may not be looked at yet while others are: they may not break what these rely on.
     phases = (1,) if hands == 1 else (0, 1)
     told = [("make", 1)]
     if way == "read":
@@ -57,6 +84,5 @@ def wants(way, hands, pieces):
 
 
 def lacking(book, rows):
-    """Returns those rows of entries of which book has none."""
-    had = entries(book)
-    return [row for row in rows if not any([entry in had for entry in row])]
+    """Returns those rows of which book has no entry."""
+    return [row for row in rows if not any([has_entry(book, entry) for entry in row])]

@@ -1,20 +1,25 @@
 """Sweeping: what stayed white to the end of a marking is free again."""
 
-from guardbooks.ending import cells_of_colour, last_look, lost
+from guardbooks.ending import cells_marked, last_look, white_reached
 from guardbooks.errors import Lost
 
 
 def freed(book, standing):
     """Returns the ascending tuple of the cells that are swept; raises Lost if a hand comes to one of them."""
-    cells = lost(book, standing)
+    behind = last_look(book, standing)
+    cells = white_reached(behind)
     if cells:
         raise Lost(cells)
-    return cells_of_colour(last_look(book, standing), 0)
+    return cells_marked(behind, "white")
 
 
 def swept(book, standing):
     """Returns the standing with which the next marking begins."""
-    cells = freed(book, standing)
+    return without_cells(standing, freed(book, standing))
+
+
+def without_cells(standing, cells):
+    """Returns the standing with these cells free, all others white, and no hand looked at."""
     heap, marks, hands, _ = standing
     left = [() if cell in cells else _without(fields, cells) for cell, fields in enumerate(heap)]
     behind = ["free" if cell in cells or mark == "free" else "white" for cell, mark in enumerate(marks)]
