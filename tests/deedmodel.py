@@ -192,3 +192,32 @@ def random_run(chance, book, standing, many):
         deeds.append(chance.choice(rows[chance.choice(sorted(rows))]))
         marked.do(book, deeds[-1])
     return tuple(deeds)
+
+
+def quick_run(chance, book, standing, many):
+    """Random deeds likewise, each tried until one can be done: quicker where there are many cells and rooms."""
+    marked, deeds = Marked(standing), []
+    words = [*LETTERS, "look", "scan", "read", "write"]
+    for _ in range(many):
+        here = marked.standing()
+        for _ in range(30):
+            deed = drawn_deed(chance, here, chance.choice(words))
+            if fault(here, deed) is None:
+                deeds.append(deed)
+                marked.do(book, deed)
+                break
+    return tuple(deeds)
+
+
+def drawn_deed(chance, standing, word):
+    """A random deed of this word, whether it can be done or not."""
+    heap, marks, hands, _ = standing
+    hand = chance.randrange(len(hands))
+    rooms = range(len(hands[hand]))
+    grey = [cell for cell, mark in enumerate(marks) if type(mark) is int]
+    # Rooms that hold a cell are taken more often.
+    holding = [room for room in rooms if hands[hand][room] is not None] or [*rooms]
+    numbers = {
+        "h": hand, "c": chance.choice(grey or [0]), "i": chance.choice(holding), "n": chance.randrange(4),
+        "f": chance.randrange(3), "j": chance.choice([*rooms, None] if word == "write" else rooms)}
+    return (word, *[numbers[letter] for letter in LETTERS[word]])

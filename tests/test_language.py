@@ -17,12 +17,14 @@ STATEMENTS = (
     ast.ImportFrom, ast.Expr, ast.Break, ast.Continue, ast.Pass, ast.Try)
 EXPRESSIONS = (
     ast.BoolOp, ast.BinOp, ast.UnaryOp, ast.IfExp, ast.Dict, ast.ListComp, ast.DictComp, ast.Compare, ast.Call,
-    ast.Constant, ast.Attribute, ast.Subscript, ast.Name, ast.List, ast.Tuple, ast.Slice)
+    ast.Constant, ast.Attribute, ast.Subscript, ast.Name, ast.List, ast.Tuple, ast.Slice, ast.SetComp)
 CALLED = (
     "len", "range", "enumerate", "min", "max", "sum", "abs", "sorted", "reversed", "int", "str", "bool", "list",
     "tuple", "dict", "isinstance", "any", "all", "divmod", "zip")
 METHODS = (
-    "append", "get", "index", "isdecimal", "items", "join", "pop", "split", "startswith", "endswith", "values")
+    "append", "bit_length", "count", "get", "index", "isdecimal", "items", "join", "partition", "pop", "split",
+    "startswith", "endswith", "values")
+DOUBLE = ("__init__", "__eq__")
 BARRED = (
     "mro", "elements", "open", "input", "law", "type", "typing", "enum", "register", "vars", "id", "dir", "eval",
     "exec", "exit", "gc", "os", "sys", "help", "quit", "compile", "super", "locals", "globals")
@@ -72,13 +74,36 @@ def taken_from_tables(tree):
         and isinstance(node.value.value, ast.Name) and node.value.value.id in tables]
 
 
+def classes():
+    return [node for _, node in nodes() if isinstance(node, ast.ClassDef)]
+
+
+def methods_of(node):
+    return [one for one in node.body if isinstance(one, ast.FunctionDef) and one.name not in DOUBLE]
+
+
+def own_methods():
+    """The names of the methods that the package's classes define, but for properties."""
+    return {one.name for node in classes() for one in methods_of(node) if not one.decorator_list}
+
+
+def own_properties():
+    return {one.name for node in classes() for one in methods_of(node) if one.decorator_list}
+
+
+def own_attributes():
+    """The names of the attributes that are assigned anywhere."""
+    return {
+        node.attr for _, node in nodes() if isinstance(node, ast.Attribute) and isinstance(node.ctx, ast.Store)}
+
+
 def bound_names(tree):
     for node in ast.walk(tree):
         if isinstance(node, ast.Name) and isinstance(node.ctx, ast.Store):
             yield node.id
         elif isinstance(node, ast.arg):
             yield node.arg
-        elif isinstance(node, (ast.FunctionDef, ast.ClassDef)) and node.name != "__init__":
+        elif isinstance(node, (ast.FunctionDef, ast.ClassDef)) and node.name not in DOUBLE:
             yield node.name
 
 
@@ -114,7 +139,9 @@ class FormTest(unittest.TestCase):
             if isinstance(node, ast.expr):
                 self.assertIsInstance(node, EXPRESSIONS, place)
             if isinstance(node, ast.FunctionDef):
-                self.assertEqual(node.decorator_list, [], place)
+                for decorator in node.decorator_list:
+                    self.assertEqual(ast.unparse(decorator), "property", place)
+                    self.assertEqual([arg.arg for arg in node.args.args], ["self"], place)
                 self.assertTrue(node.args.vararg is None and node.args.kwarg is None, place)
             if isinstance(node, ast.BinOp):
                 self.assertNotIsInstance(node.op, (ast.Div, ast.Mod, ast.Pow, ast.MatMult), place)
@@ -170,12 +197,59 @@ class FormTest(unittest.TestCase):
         for name, tree in trees().items():
             known = [*CALLED, *defined_in(tree), *[alias.name for _, alias in imported_by(tree)], "ValueError"]
             known += taken_from_tables(tree)
+            methods = {*METHODS, *own_methods()}
+            bases = [ast.unparse(base) for node in ast.walk(tree) if isinstance(node, ast.ClassDef) for base in node.bases]
+            for node in ast.walk(tree):
+                if isinstance(node, ast.Attribute) and ast.unparse(node) == "type(error).__name__":
+                    known.append("type")
             for node in ast.walk(tree):
                 if isinstance(node, ast.Call) and isinstance(node.func, ast.Name):
                     self.assertIn(node.func.id, known, f"{name}:{node.lineno}")
                 elif isinstance(node, ast.Call):
                     self.assertIsInstance(node.func, ast.Attribute, f"{name}:{node.lineno}")
-                    self.assertIn(node.func.attr, METHODS, f"{name}:{node.lineno}")
+                    if node.func.attr == "__init__":
+                        self.assertIn(ast.unparse(node.func.value), bases, f"{name}:{node.lineno}")
+                    else:
+                        self.assertIn(node.func.attr, methods, f"{name}:{node.lineno}")
+
+    def test_sets_are_sorted_at_once(self):
+        """A set comprehension stands directly in sorted(..), and no other set is there."""
+        made = [place for place, node in nodes() if isinstance(node, ast.SetComp)]
+        sorted_at_once = [
+            place for place, node in nodes() if isinstance(node, ast.Call) and ast.unparse(node.func) == "sorted"
+            and [arg for arg in node.args if isinstance(arg, ast.SetComp)] and not node.keywords]
+        self.assertEqual(len(made), len(sorted_at_once))
+
+    def test_double_underscores(self):
+        for place, node in nodes():
+            if isinstance(node, ast.FunctionDef) and node.name.startswith("__"):
+                self.assertIn(node.name, DOUBLE, place)
+            if isinstance(node, ast.Attribute) and node.attr.startswith("__"):
+                self.assertIn(node.attr, ("__init__", "__name__"), place)
+            if isinstance(node, ast.FunctionDef) and node.name == "__eq__":
+                self.assertRegex(ast.unparse(node.body[0]), r"^if not isinstance\(other, \w+\):\n +return False$", place)
+
+    def test_methods_attributes_and_properties_are_apart(self):
+        self.assertEqual(own_methods() & own_attributes(), set())
+        self.assertEqual(own_properties() & (own_methods() | own_attributes()), set())
+        for node in classes():
+            names = [one.name for one in methods_of(node)]
+            self.assertEqual(len(names), len(set(names)), node.name)
+
+    def test_properties_change_nothing(self):
+        for node in classes():
+            for one in methods_of(node):
+                if one.decorator_list:
+                    kinds = [type(row) for row in one.body]
+                    self.assertLessEqual(set(kinds), {ast.Expr, ast.Assign, ast.Return}, one.name)
+                    for inner in ast.walk(one):
+                        if isinstance(inner, (ast.Attribute, ast.Subscript)):
+                            self.assertIsInstance(inner.ctx, ast.Load, one.name)
+
+    def test_attributes_are_assigned_off_local_names(self):
+        for place, node in nodes():
+            if isinstance(node, ast.Attribute) and isinstance(node.ctx, ast.Store):
+                self.assertIsInstance(node.value, ast.Name, place)
 
     def test_only_own_errors_are_caught(self):
         own = defined_in(trees()["errors.py"])
@@ -183,7 +257,7 @@ class FormTest(unittest.TestCase):
             if isinstance(node, ast.Try):
                 self.assertEqual((node.orelse, node.finalbody), ([], []), place)
                 for handler in node.handlers:
-                    self.assertIsNone(handler.name, place)
+                    self.assertIn(handler.name, (None, "error"), place)
                     caught = handler.type.elts if isinstance(handler.type, ast.Tuple) else [handler.type]
                     for error in caught:
                         self.assertIn(error.id, own, place)
