@@ -99,6 +99,14 @@ def with_entry(book, entry):
     return replaced(book, _places_of(entry), True)
 
 
+def with_entries(book, told):
+    """Returns book with all entries told as well."""
+    more = book
+    for entry in told:
+        more = with_entry(more, entry)
+    return more
+
+
 def without(book, entry):
     """Returns book without entry; for what is made with "white"."""
     if entry[0] == "write":

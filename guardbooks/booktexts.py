@@ -48,7 +48,7 @@ def read_book(value):
         raise BadText(0)
     meanings = _meanings()
     told = {}
-    for place, line in enumerate(_lines_of(value)):
+    for place, line in enumerate(lines_of(value)):
         if line not in meanings:
             raise BadText(place)
         entry, made = meanings[line]
@@ -58,7 +58,7 @@ def read_book(value):
     return _book_of(told)
 
 
-def _lines_of(text):
+def lines_of(text):
     """What stands ahead of each line feed, and what stands behind the last one if that is not empty."""
     lines = text.split("\n")
     if lines[-1] == "":

@@ -3,6 +3,7 @@
 from guardbooks.bounds import MAX_DEEDS
 from guardbooks.deeds import NUMBERS
 from guardbooks.errors import BadText
+from guardbooks.kinds import number_in
 
 NOTHING = "none"
 
@@ -21,7 +22,7 @@ def deeds_text(deeds):
 
 def read_deed(value):
     """Returns the deed of which value, any value, is the text."""
-    deed = _deed_of(value) if isinstance(value, str) else None
+    deed = deed_in(value) if isinstance(value, str) else None
     if deed is None:
         raise BadText(0)
     return deed
@@ -33,7 +34,7 @@ def read_deeds(value):
         raise BadText(0)
     if value == NOTHING:
         return ()
-    deeds = [_deed_of(line) for line in value.split("\n")]
+    deeds = [deed_in(line) for line in value.split("\n")]
     for place, deed in enumerate(deeds):
         if deed is None:
             raise BadText(place)
@@ -42,22 +43,23 @@ def read_deeds(value):
     return tuple(deeds)
 
 
-def _deed_of(line):
+def deed_in(line):
     """Returns the deed of which line is the text, None if it is that of none."""
+    return told_by_line(line, dict(NUMBERS), 2)
+
+
+def told_by_line(line, numbers, figures):
+    """Returns the tuple of a word and of numbers of which line is the text, None if it is that of none.
+
+    numbers gives for each word how many numbers stand behind it, figures how long they are at the most.
+    """
     words = line.split(" ")
-    if len(words) - 1 != NUMBERS.get(words[0]):
+    if len(words) - 1 != numbers.get(words[0]):
         return None
-    deed = [words[0]]
+    told = [words[0]]
     for place in range(1, len(words)):
-        if words[0] == "write" and place == 4 and words[place] == NOTHING:
-            deed.append(None)
-        elif _is_number(words[place]):
-            deed.append(int(words[place]))
-        else:
+        number = number_in(words[place], figures)
+        if number is None and not (words[0] == "write" and place == 4 and words[place] == NOTHING):
             return None
-    return tuple(deed)
-
-
-def _is_number(word):
-    """Tells whether word is a number from 0 to 99 as it is written here."""
-    return word.isdecimal() and len(word) <= 2 and str(int(word)) == word
+        told.append(number)
+    return tuple(told)

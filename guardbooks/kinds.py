@@ -1,4 +1,4 @@
-"""What kinds values are of, asked of any value, and tuples with another item in them."""
+"""What kinds values are of, asked of any value, numbers as they are written, and tuples with another item."""
 
 
 def is_integer(value):
@@ -31,6 +31,14 @@ def first_misnamed(rows, many):
             if item is not None and not is_number_below(item, many):
                 return (place, at)
     return None
+
+
+def number_in(text, figures):
+    """Returns the number of so many figures at the most that text is, without a nought ahead of another, or None."""
+    if not text.isdecimal() or len(text) > figures:
+        return None
+    number = int(text)
+    return number if str(number) == text else None
 
 
 def replaced(row, places, item):

@@ -35,6 +35,18 @@ def hybrid(pieces):
     return with_made(with_made(book, 0, "black"), 1, "black")
 
 
+# A table of functions stands behind all of them.
+KNOWN = {"baker": baker, "dijkstra": dijkstra, "hybrid": hybrid, "steele": steele, "yuasa": yuasa}
+
+
+def known_book(name, pieces):
+    """Returns the book that is known by this name, None if none is."""
+    if name not in KNOWN:
+        return None
+    maker = KNOWN[name]
+    return maker(pieces)
+
+
 def _spent(pieces):
     # Field by field a grey cell may have fields that are gone through already.
     if pieces:

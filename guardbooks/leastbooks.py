@@ -1,6 +1,6 @@
 """Least books: safe ones from which nothing can be left out, and what other ones lack."""
 
-from guardbooks.books import entries, plain_book, with_entry, without
+from guardbooks.books import entries, plain_book, with_entries, without
 from guardbooks.errors import Unfit
 from guardbooks.safety import WAYS, inserting, is_closed, is_safe, lacking, wants
 
@@ -35,8 +35,8 @@ def least_books(hands, last, pieces):
     """Returns the ascending tuple of all least books with these two items that nowhere make "grey"."""
     # No other way needs a last look, and without one of its entries none of these books is safe.
     found = [way for way in WAYS if (way == "last") == last]
-    return tuple(sorted([
-        _book_of(choice, last, pieces) for way in found for choice in _choices(least_rows(way, hands, pieces))]))
+    choices = [choice for way in found for choice in _choices(least_rows(way, hands, pieces))]
+    return tuple(sorted([with_entries(plain_book(last, pieces), choice) for choice in choices]))
 
 
 def least_rows(way, hands, pieces):
@@ -52,14 +52,6 @@ def _choices(rows):
     for row in rows:
         choices = [choice + (entry,) for choice in choices for entry in row]
     return choices
-
-
-def _book_of(told, last, pieces):
-    """Returns the book with these two items and the entries told."""
-    book = plain_book(last, pieces)
-    for entry in told:
-        book = with_entry(book, entry)
-    return book
 
 
 def fewest_added(book, hands):

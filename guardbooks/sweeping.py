@@ -15,15 +15,17 @@ def freed(book, standing):
 
 def swept(book, standing):
     """Returns the standing with which the next marking begins."""
-    return without_cells(standing, freed(book, standing))
+    _, behind = freed_and_swept(book, standing)
+    return behind
 
 
-def without_cells(standing, cells):
-    """Returns the standing with these cells free, all others white, and no hand looked at."""
+def freed_and_swept(book, standing):
+    """Returns the pair of what freed and swept tell."""
+    cells = freed(book, standing)
     heap, marks, hands, _ = standing
     left = [() if cell in cells else _without(fields, cells) for cell, fields in enumerate(heap)]
     behind = ["free" if cell in cells or mark == "free" else "white" for cell, mark in enumerate(marks)]
-    return (tuple(left), tuple(behind), hands, (False,) * len(hands))
+    return cells, (tuple(left), tuple(behind), hands, (False,) * len(hands))
 
 
 def _without(fields, cells):

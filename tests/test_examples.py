@@ -1,4 +1,4 @@
-"""Every example that the document gives of what has landed, in its order."""
+"""Every example that the document gives, in its order."""
 
 import unittest
 
@@ -273,7 +273,229 @@ F3 = r"""
 [None, None, 'kept', 'kept', 'kept', None]
 """
 
-PROMISES = "A5 A7 A8 A9 B2 B3 B4 B5 C2 C3 C4 C5 D2 D3 D4 E2 E3 F2 F3".split()
+G2 = r"""
+>>> from guardbooks.shields import broken, chain, chain_error, held_white, invariant, seen_white
+>>> near = (((2,), (None, 2), (3,), ()), ("black", 1, "white", "white"), ((0, 1),), (True,))
+>>> deep = (near[0], near[1], ((0, 3),), (True,))
+>>> cut = (((2,), (2, None), (3,), ()), near[1], ((0, 1),), (True,))
+>>> early = (((1,), (2,), ()), ("white",) * 3, ((0, None),), (False,))
+>>> [(seen_white(standing), held_white(standing)) for standing in (near, deep, cut, early)]
+[((2,), ()), ((2,), (3,)), ((2,), ()), ((), ())]
+"""
+
+G3 = r"""
+>>> chain(near, 2), chain(near, 3), chain(cut, 2), chain(near, 0), chain(early, 1)
+((1, 2), (1, 2, 3), None, None, None)
+>>> [chain_error(near, 3, value) for value in ((1, 2, 3), (1, 2), [1, 2, 3], (3,), (0, 2, 3), (1, 0, 2, 3), (1, 3), (1, 2, True), (1, 3, 0), (1, 2, 2, 3))]
+[None, 'end', 'form', 'form', ('mark', 0), ('mark', 1), ('field', 1), 'form', ('mark', 2), ('field', 2)]
+>>> chain_error(cut, 2, (1, 2)), chain_error(near, 2, (1, 2))
+(('field', 1), None)
+"""
+
+G4 = r"""
+>>> [broken(way, near) for way in ("child", "last", "old", "read")], [broken(way, deep) for way in ("child", "last", "old", "read")]
+([(), (2,), (), (2,)], [(3,), (2,), (), (2, 3)])
+>>> [invariant(way, cut) for way in ("child", "last", "old", "read")], [invariant(way, early) for way in ("child", "last", "old", "read")]
+([False, False, False, False], [True, True, True, True])
+"""
+
+H2 = r"""
+>>> from guardbooks.counting import counts, left, out_of_use
+>>> heap = ((1, 2), (2,), (), (0,), ())
+>>> first = (heap, ("white",) * 4 + ("free",), ((0,),), (False,))
+>>> left(first), out_of_use(first), left((heap, (1, 0, "white", "black", "free"), ((None,),), (True,))), out_of_use((heap, ("white",) * 4 + ("free",), ((None,),), (True,)))
+((0, 0), (3,), (2, 2), (0, 1, 2, 3))
+"""
+
+H3 = r"""
+>>> from guardbooks.books import plain_book
+>>> from guardbooks.knownbooks import dijkstra, steele
+>>> whole, parts = plain_book(False, False), plain_book(False, True)
+>>> counts(whole, first, (("look", 0), ("scan", 0), ("scan", 1)))
+(1, 2, 3, 2, 3, ())
+>>> counts(parts, first, (("look", 0), ("scan", 0), ("scan", 0)))
+(1, 2, 3, 2, 3, ())
+>>> made = (("look", 0), ("scan", 0), ("scan", 1), ("make", 0, 0, 1), ("write", 0, 0, 0, 0))
+>>> counts(whole, first, made), counts(dijkstra(False), first, made)
+((1, 2, 3, 2, 3, ()), (1, 2, 3, 2, 3, ()))
+>>> black = (((None,), ()), ("black", "white"), ((0, 1),), (True,))
+>>> [counts(book, black, (("write", 0, 0, 0, 1),)) for book in (whole, dijkstra(False), steele(False))]
+[(0, 0, 0, 0, 0, ()), (0, 0, 1, 0, 0, ((('write', 1, 2, 'new'), 1),)), (0, 0, 0, 1, 1, ((('write', 1, 2, 'again'), 1),))]
+>>> counts(whole, first, (("scan", 0),))
+raises Refused(('scan', 0))
+"""
+
+I2 = r"""
+>>> from guardbooks.programs import program_error, programs_error
+>>> from guardbooks.books import plain_book, with_entry
+>>> from guardbooks.standings import start
+>>> from guardbooks.weaving import kept, may_lose, unasked, woven
+>>> unhook = (("read", 0, 0, 1), ("write", 0, 0, None))
+>>> [program_error(value) for value in (unhook, (), (("make", 3, 0),) * 6, (("make", 3, 0),) * 7, list(unhook), (("read", 0, 3, 1),), (unhook[0], ("drop", None)), (("look", 0),))]
+[None, None, None, 'form', 'form', ('line', 0), ('line', 1), ('line', 0)]
+>>> pair = start(((1,), ()), ((0, None),), 0)
+>>> [programs_error(pair, value) for value in ((unhook,), ((),), unhook, (unhook, ()), ((("drop", True),),))]
+[None, None, 'form', 'form', ('program', 0, ('line', 0))]
+"""
+
+I3 = r"""
+>>> bare = plain_book(False, False)
+>>> woven(bare, pair, (unhook,)), may_lose(bare, pair, (unhook,))
+(12, (('look', 0), ('read', 0, 0, 0, 1), ('write', 0, 0, 0, None), ('scan', 0)))
+>>> may_lose(bare, pair, (unhook + (("drop", 1),),)) == may_lose(bare, pair, (unhook,))
+True
+>>> guarded = with_entry(bare, ("write", 1, 1, "old"))
+>>> woven(guarded, pair, (unhook,)), may_lose(guarded, pair, (unhook,))
+(10, None)
+>>> let_go = (("read", 1, 0, 0), ("drop", 0))
+>>> woven(bare, pair, (let_go,)), woven(bare, pair, (let_go[1:],)), may_lose(bare, pair, (let_go,)), woven(bare, pair, ((),))
+(7, 7, None, 3)
+"""
+
+I4 = r"""
+>>> kept(bare, pair, (unhook,)), kept(bare, pair, (let_go,)), kept(bare, pair, ((),))
+((0, 0), (0, 2), (0, 0))
+>>> unasked(guarded, pair, (unhook,)), unasked(guarded, pair, (let_go,)), unasked(bare, pair, (unhook,))
+((), (('write', 1, 1, 'old'),), ())
+"""
+
+J2 = r"""
+>>> from guardbooks.books import plain_book, with_entry
+>>> from guardbooks.prices import cheapest, cheapest_error, prices_error, total
+>>> shop = ((("last",), 4), (("make", 1), 1), (("read", 1, 1), 2), (("write", 1, 2, "new"), 3))
+>>> [prices_error(value) for value in (shop, (), list(shop), (("last",), 4), ((("last",), -1),), ((("last",), True),), ((("last",),),), ((("write", 1, 3, "new"), 2),), ((("make", 1), 1), (("last",), 4)), ((("last",), 4), (("last",), 5)), ((("make", 1), 1), (("last",), 4), 7))]
+[None, None, 'form', ('entry', 0), ('entry', 0), ('entry', 0), ('entry', 0), ('entry', 0), ('order', 1), ('order', 1), ('entry', 2)]
+>>> bare = plain_book(False, False)
+>>> asking = with_entry(with_entry(bare, ("read", 1, 1)), ("make", 1))
+>>> total(bare, shop), total(asking, shop), total(bare, ()), total(plain_book(True, False), shop)
+(0, 3, 0, 4)
+>>> total(asking, shop[:2])
+raises Unfit()
+"""
+
+J3 = r"""
+>>> found = cheapest(shop, 1, False)
+>>> total(found, shop), found in (asking, (asking[0], asking[1], ("white", "grey"), False, False))
+(3, True)
+>>> cheapest(shop, 2, False), cheapest((), 1, False), cheapest(shop[:3], 1, True)[4], total(cheapest(shop[:1] + shop[3:], 1, False), shop), cheapest(shop[:1] + shop[3:], 1, True)
+(None, None, True, 7, None)
+>>> more = shop + ((("write", 1, 2, "old"), 0),)
+>>> total(cheapest(more, 1, False), more)
+3
+"""
+
+J4 = r"""
+>>> [cheapest_error(shop, 1, False, value) for value in (asking, bare, None, with_entry(asking, ("last",)), with_entry(asking, ("read", 1, 0)), asking[:4] + (True,))]
+[None, 'safe', 'none', 'dear', ('price', ('read', 1, 0)), 'pieces']
+>>> cheapest_error(shop, 2, False, None), cheapest_error(shop, 2, False, asking), cheapest_error(shop, 1, False, 7)
+(None, 'safe', ('book', 'form'))
+"""
+
+K3 = r"""
+>>> from guardbooks.knownbooks import yuasa
+>>> from guardbooks.books import plain_book
+>>> from guardbooks.yards import Yard
+>>> y = Yard(yuasa(False), (), ((None, None),), 3)
+>>> [y.make(0, 0, 1), y.make(0, 1, 0), y.write(0, 0, 0, 1), y.drop(0, 1)], y.standing
+([1, 2, 3, 4], (((1,), (), ()), ('white', 'white', 'free'), ((0, None),), (False,)))
+>>> y.due, y.mark(1), y.due, y.standing[1]
+(('look', 0), 5, ('scan', 0), (0, 'white', 'free'))
+>>> [y.read(0, 0, 0, 1), y.write(0, 0, 0, None)], y.standing[0], y.standing[1], y.standing[2]
+([6, 7], ((None,), (), ()), (0, 'black', 'free'), ((0, 1),))
+>>> y.mark(9), y.due, y.sweep(), y.freed, y.cycles, y.standing[1], y.standing[3]
+(8, ('sweep',), 9, (), 1, ('white', 'white', 'free'), (False,))
+>>> y.drop(0, 1), y.cycle(), y.freed, y.cycles, y.standing[1], y.make(0, 1, 2), y.standing[0]
+(10, 11, (1,), 2, ('white', 'free', 'free'), 12, ((None,), (None, None), ()))
+>>> z = y.twin()
+>>> z == y, z.undo(), z.undo(), z.freed, z.cycles, z == y, y.version
+(True, 11, 10, (), 1, False, 12)
+>>> y.read(0, 0, 1, 1)
+raises Refused(('read', 0, 0, 1, 1))
+>>> y.scan(0)
+raises Refused(('scan', 0))
+>>> y.sweep()
+raises Unfit()
+>>> y.mark(0)
+raises Unfit()
+>>> Yard(yuasa(False), (), ((None, None),), 41)
+raises Unfit()
+>>> x = Yard(plain_book(False, False), (), ((None, None),), 3)
+>>> [x.make(0, 0, 1), x.make(0, 1, 0), x.write(0, 0, 0, 1), x.drop(0, 1), x.look(0), x.read(0, 0, 0, 1), x.write(0, 0, 0, None), x.scan(0)], x.standing[1]
+([1, 2, 3, 4, 5, 6, 7, 8], ('black', 'white', 'free'))
+>>> x.sweep()
+raises Lost((1,))
+"""
+
+K4 = r"""
+>>> from guardbooks.yardlogs import log_text, read_log, yard_behind
+>>> log_text(y.log[:7]), read_log(log_text(y.log)) == y.log, yard_behind(yuasa(False), (), ((None, None),), 3, y.log) == y
+('make 0 0 1\nmake 0 1 0\nwrite 0 0 0 1\ndrop 0 1\nmark 1\nread 0 0 0 1\nwrite 0 0 0 none\n', True, True)
+>>> y.log[7:], read_log("cycle\nsweep\nlook 0"), log_text(())
+((('mark', 9), ('sweep',), ('drop', 0, 1), ('cycle',), ('make', 0, 1, 2)), (('cycle',), ('sweep',), ('look', 0)), '')
+>>> read_log("mark 1\nmark 01\n")
+raises BadText(1)
+>>> yard_behind(yuasa(False), (), ((None,),), 3, (("make", 0, 0, 1), ("sweep",)))
+raises BadLog(1)
+>>> yard_behind(None, (), ((None,),), 3, ())
+raises BadBook('form')
+>>> v = yard_behind(yuasa(False), ((None,), ()), ((0,), (0, 1)), 0, (("look", 0), ("scan", 0), ("write", 1, 0, 0, 1), ("drop", 1, 1), ("look", 1)))
+>>> v.due, v.standing[1]
+(('sweep',), ('black', 'white'))
+>>> v.sweep()
+raises Lost((1,))
+>>> from guardbooks.ending import lost
+>>> from guardbooks.losing import losing
+>>> run = losing(yuasa(False), 2)
+>>> u = yard_behind(yuasa(False), run[0], run[1], run[2], run[3])
+>>> u.due, lost(u.book, u.standing) != ()
+(('sweep',), True)
+"""
+
+L1 = r"""
+>>> from guardbooks.standings import start
+>>> from guardbooks.standingtexts import read_standing, standing_text
+>>> small = start(((1, None), (None,), ()), ((0, None),), 1)
+>>> grey = (small[0], (1, "white", "black", "free"), ((0, 1), (None,)), (True, False))
+>>> standing_text(small), standing_text(grey)
+('cell white 1 -\ncell white -\ncell white\ncell free\nhand unlooked 0 -', 'cell grey1 1 -\ncell white -\ncell black\ncell free\nhand looked 0 1\nhand unlooked -')
+>>> read_standing(standing_text(grey)) == grey, read_standing("hand looked -"), read_standing("cell black 0\nhand unlooked 0 0")
+(True, ((), (), ((None,),), (True,)), (((0,),), ('black',), ((0, 0),), (False,)))
+>>> read_standing("cell white 1\nhand looked")
+raises BadStanding(('heap', ('field', 0, 0)))
+>>> read_standing("cell grey1 -\nhand looked 0")
+raises BadStanding(('mark', 0))
+>>> read_standing("cell white")
+raises BadStanding('hands')
+>>> read_standing("hand looked -\ncell white")
+raises BadText(1)
+>>> read_standing("cell white 01\nhand looked -")
+raises BadText(0)
+>>> read_standing("cell white\nhand looked -\n")
+raises BadText(2)
+>>> read_standing("")
+raises BadText(0)
+"""
+
+L2 = r"""
+>>> from guardbooks.shells import Shell
+>>> s = Shell()
+>>> [s.say(line) for line in ("show", "drop 0 100", "yard 1 2 3", "make 0 0 1", "make 0 1 0", "write 0 0 0 1", "drop 0 1", "show", "due", "mark 1", "due")]
+['no yard', 'what', 'version 0', 'version 1', 'version 2', 'version 3', 'version 4', 'cell white 1\ncell white\ncell free\nhand unlooked 0 -', 'look 0', 'version 5', 'scan 0']
+>>> [s.say(line) for line in ("read 0 0 0 1", "write 0 0 0 none", "lost", "mark 9", "due", "show", "reached", "lost", "sweep", "version", "undo", "undo", "undo")]
+['version 6', 'version 7', 'error Unfit', 'version 8', 'sweep', 'cell black -\ncell white\ncell free\nhand looked 0 1', '0 1', '1', 'error Lost', '8', 'version 7', 'version 6', 'version 5']
+>>> [s.say(line) for line in ("drop 0 0", "mark 9", "floating", "cycle", "freed", "cycles", "floating", "show", "cycle", "freed", "show")]
+['version 6', 'version 7', '0 1', 'version 8', 'none', '1', 'error Unfit', 'cell white 1\ncell white\ncell free\nhand unlooked - -', 'version 9', '0 1', 'cell free\ncell free\ncell free\nhand unlooked - -']
+>>> [s.say(line) for line in ("safe 1", "entries", "with read looked grey", "with make looked", "safe 1", "safe 2", "with write unlooked black new", "safe 2", "safe 5", "entries")]
+['none', 'none', 'ok', 'ok', 'read', 'none', 'ok', 'read', 'error Unfit', 'make looked; read looked grey; write unlooked black new']
+>>> [s.say(line) for line in ("pieces", "safe 1", "safe 2", "without make looked", "safe 1", "with read", "with ", "book plain", "entries", "last", "entries", "book dijkstra pieces", "book", "drop 0 100", "look 00", "mark 0", 5)]
+['ok', 'read', 'none', 'ok', 'none', 'error BadText', 'error BadText', 'ok', 'none', 'ok', 'last', 'ok', 'what', 'what', 'what', 'error Unfit', 'what']
+>>> [s.say(line) for line in ("yard 5 1 1", "yard 1 1 41", "yard cell white 1\ncell white\ncell free\nhand unlooked 0", "due", "look 0", "version", "yard cell free\ncell white\nhand unlooked 1", "yard cell white\nhand looked 0", "yard", "yard ", "show")]
+['error BadStanding', 'error Unfit', 'version 0', 'look 0', 'version 1', '1', 'error Unfit', 'error Unfit', 'what', 'error BadText', 'cell grey0 1\ncell white\ncell free\nhand looked 0']
+"""
+
+PROMISES = (
+    "A5 A7 A8 A9 B2 B3 B4 B5 C2 C3 C4 C5 D2 D3 D4 E2 E3 F2 F3 "
+    "G2 G3 G4 H2 H3 I2 I3 I4 J2 J3 J4 K3 K4 L1 L2").split()
 
 
 class ExamplesTest(unittest.TestCase):
