@@ -76,8 +76,10 @@ class Scene:
         self.left = left
         self.many = len(plain[0])
         self.fielded = bits_of([cell for cell, fields in enumerate(plain[0]) if fields])
-        self.held = [bits_of(rooms) for rooms in plain[2]]
-        # The pairs of a hand and its next move are found when they are asked for.
+        # Of each hand the bit that tells whether it was looked at, those of what its look shades, and the look itself.
+        self.looks = [
+            (1 << (4 * self.many + hand), bits_of(rooms), ("look", hand)) for hand, rooms in enumerate(plain[2])]
+        # The pairs of this bit of a hand and of its next move are found when they are asked for.
         self.moves = None
 
     def shaded(self, place, cells):

@@ -51,8 +51,8 @@ def unasked(book, standing, programs):
     weaver = Weaver(book, standing, programs)
     asked = {}
     for place in weaver.came:
-        for hand, move in weaver.scenes[place >> weaver.width].moves:
-            for entry in move.asked(place, weaver.phase(place, hand)):
+        for look, move in weaver.scenes[place >> weaver.width].moves:
+            for entry in move.asked(place, 1 if place & look else 0):
                 asked[entry] = True
     return tuple([entry for entry in entries(book) if entry not in asked])
 
@@ -80,10 +80,6 @@ class Weaver:
     def is_over(self, place):
         """Tells whether every hand was looked at and no cell is grey."""
         return place & (self.over | (self.cells << self.many)) == self.over
-
-    def phase(self, place, hand):
-        """Returns the phase of the hand."""
-        return (place >> (self.first_look + hand)) & 1
 
     def standing_of(self, place):
         """Returns the standing of a place that is over."""
@@ -128,11 +124,10 @@ class Weaver:
         scene = self.scenes[number]
         if scene.moves is None:
             scene.moves = self._moves(number)
-        steps = [(move.behind(place, self.phase(place, hand)), move.deed) for hand, move in scene.moves]
-        for hand, held in enumerate(scene.held):
-            look = 1 << (self.first_look + hand)
+        steps = [(move.behind(place, 1 if place & look else 0), move.deed) for look, move in scene.moves]
+        for look, held, deed in scene.looks:
             if not place & look:
-                steps.append((scene.shaded(place, held) | look, ("look", hand)))
+                steps.append((scene.shaded(place, held) | look, deed))
         grey = (place >> self.many) & self.cells
         while grey:
             bit = grey & -grey
@@ -178,7 +173,7 @@ class Weaver:
         return tuple(passed)
 
     def _moves(self, number):
-        """Returns the pairs of a hand and its next move in the scene of this number."""
+        """Returns what the scene of this number is to have as its moves."""
         scene = self.scenes[number]
         moves = []
         for hand, many in enumerate(scene.left):
@@ -187,7 +182,7 @@ class Weaver:
                 plain = after(plain_book(False, False), scene.plain, deed)
                 left = scene.left[:hand] + (many - 1,) + scene.left[hand + 1:]
                 onward = (self._number_of(plain, left) - number) << self.width
-                moves.append((hand, self._move(scene, deed, onward)))
+                moves.append((scene.looks[hand][0], self._move(scene, deed, onward)))
         return moves
 
     def _move(self, scene, deed, onward):

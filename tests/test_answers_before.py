@@ -3,6 +3,7 @@
 import hashlib
 import itertools
 import random
+import time
 import unittest
 
 from guardbooks.errors import Unfit
@@ -15,7 +16,7 @@ from tests.bookpool import ENTRIES, bare, book_of, full, random_books, told_by
 from tests.eldermodel import (
     fewest_added_before, is_least_before, least_books_before, least_part_before, needless_before)
 from tests.safetymodel import near_books, starts_early_by, ways_of
-from tests.support import GuardCase, Quickly
+from tests.support import GuardCase
 
 HANDS = (1, 2, 3, 4)
 KINDS = list(itertools.product(HANDS, (False, True), (False, True)))
@@ -135,40 +136,44 @@ class AnswersBeforeTest(GuardCase):
 
 
 class QuicklyTest(GuardCase):
-    """Rows of calls such as those that took too long, each in a third of the time that it took."""
+    """Rows of calls such as those that took too long, each in a third of the time that it took at the most."""
+
+    def assert_quick(self, row, seconds):
+        """The quickest of some tries counts, as other programs may run beside this one."""
+        taken = []
+        for _ in range(12):
+            begun = time.perf_counter()
+            row()
+            taken.append(time.perf_counter() - begun)
+        self.assertLess(min(taken), seconds / 3)
 
     def test_is_safe(self):
         books = KNOWN + near_books(random.Random(72), 115)
-        with Quickly(10 * 0.022 / 3):
-            for _ in range(10):
-                for book in books:
-                    for hands in HANDS:
-                        is_safe(book, hands)
+        self.assert_quick(lambda: [is_safe(book, hands) for book in books for hands in HANDS], 0.022)
 
     def test_least_books(self):
-        with Quickly(10 * 0.041 / 3):
-            for _ in range(10):
-                for hands, last, pieces in KINDS[4:] + [(4, True, True), (4, False, True)]:
-                    for book in least_books(hands, last, pieces)[:3]:
-                        is_least(book, hands)
+        def row():
+            for hands, last, pieces in KINDS[4:12] + [(4, True, True), (4, False, True)]:
+                for book in least_books(hands, last, pieces)[:3]:
+                    is_least(book, hands)
+        self.assert_quick(row, 0.041)
 
     def test_least_part(self):
         books = [book for book in FULL + drawn_books()[-40:] if is_safe(book, 2)][:6]
         self.assertEqual(len(books), 6)
-        with Quickly(10 * 0.023 / 3):
-            for _ in range(10):
-                for book in books:
-                    is_least(least_part(book, 2), 2)
+        self.assert_quick(lambda: [is_least(least_part(book, 2), 2) for book in books], 0.023)
 
     def test_all_calls(self):
-        books = near_books(random.Random(73), 20)
-        with Quickly(10 * 0.044 / 3):
+        books = near_books(random.Random(73), 2)
+
+        def row():
             for book in books:
                 for hands in (1, 2):
-                    for _ in range(2):
+                    for _ in range(3):
                         answers(book, hands)
                         least_books(hands, book[3], book[4])
                         losing_error(book, hands, losing(book, hands))
+        self.assert_quick(row, 0.044)
 
 
 if __name__ == "__main__":
